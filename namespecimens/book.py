@@ -32,5 +32,5 @@ class Book:
 
 
 def is_there(table, key, day):
-    """Whether the name or sorting of this key is there by the day."""
+    """Whether what is kept under this key is there by the day."""
     return key in table and table[key].day <= day

@@ -17,8 +17,23 @@ def fate_among(candidates, chosen):
     return 0
 
 
+def behind_choice(candidates, chosen):
+    """The candidates behind a choice of this list where these are the candidates at that point."""
+    return chosen if fate_among(candidates, chosen) == 0 else candidates
+
+
 def choices_in_order(book):
     return sorted(book.choices, key=lambda choice: (book.choices[choice].day, choice))
+
+
+def fate_of(book, key):
+    """The fate of the choice of this key: the choices behind it have no bearing on it."""
+    on = book.choices[key].name
+    order = [choice for choice in choices_in_order(book) if book.choices[choice].name == on]
+    candidates = book.names[on].first
+    for earlier in order[:order.index(key)]:
+        candidates = behind_choice(candidates, book.choices[earlier].chosen)
+    return fate_among(candidates, book.choices[key].chosen)
 
 
 def candidates_by_day(book, day):
@@ -30,8 +45,8 @@ def candidates_by_day(book, day):
     # Choices on unlike names don't meddle with one another, so one walk serves all names.
     for key in choices_in_order(book):
         choice = book.choices[key]
-        if choice.day <= day and fate_among(candidates[choice.name], choice.chosen) == 0:
-            candidates[choice.name] = choice.chosen
+        if choice.day <= day:
+            candidates[choice.name] = behind_choice(candidates[choice.name], choice.chosen)
     return candidates
 
 

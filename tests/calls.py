@@ -56,6 +56,46 @@ def where(key, sorting, day):
     return [10, key, sorting, day]
 
 
+def whatif(key, sorting, other, x, day):
+    return [11, key, sorting, other, x, day]
+
+
+def members(sorting, group, rank, day):
+    return [12, sorting, group, rank, day]
+
+
+def synonyms(key, sorting, day):
+    return [13, key, sorting, day]
+
+
+def fate(choice, day):
+    return [14, choice, day]
+
+
+def through(key, day):
+    return [15, key, day]
+
+
+def apart(day, keys):
+    return [16, day, len(keys)] + list(keys)
+
+
+def choose(day, keys):
+    return [17, day, len(keys)] + list(keys)
+
+
+def blocks(sorting, day):
+    return [18, sorting, day]
+
+
+def finer(a, b, day):
+    return [19, a, b, day]
+
+
+def pairs(a, b, day):
+    return [20, a, b, day]
+
+
 def split(given):
     """The answers of each call, from the one list that is given back."""
     found = []
@@ -111,7 +151,8 @@ def probes(setup, refused):
     for each in tables[0]:
         made += [candidates(each, DAY), reach(each, DAY), candidates(each, 5)]
     for each in tables[2]:
-        made += [where(told, each, day) for told in tables[0][:3] for day in (5, DAY)]
+        made += [where(told, each, day) for told in tables[0][:3] for day in (5, DAY)] + [blocks(each, DAY)]
+    made += [fate(each, DAY) for each in tables[1][:12]]
     # A table that is full must still be full, and one with a single place left must have it.
     made += [name(777, 5, 3, []), sort(777, 5, [])]
     made += [withdraw(2, each) for each in tables[1]]
